@@ -1,7 +1,7 @@
 """Scripts: their statements, the places of these, and what is executed after each (points 3 to 6)."""
 
 from takenahead.errors import BadScript, NoAnswer, NoPlace
-from takenahead.values import is_integer, is_name, is_within
+from takenahead.values import is_integer, is_name
 
 # The number of items of a statement, its word included.
 ITEMS = {
@@ -58,7 +58,7 @@ class Script:
         """The place of what is executed after the statement at `place`, None at the end of the script."""
         statement = self[place]
         word = statement[0]
-        if not is_within(answer, 0, 1 if word == "choose" else 0):
+        if not is_answer(statement, answer):
             raise NoAnswer(answer)
         if word == "leave":
             return None
@@ -81,6 +81,16 @@ def places_of(script):
     """Yields each place of a script with its statement, in ascending order of the places."""
     for place in script.places:
         yield (place, script[place])
+
+
+def answers_of(statement):
+    """The possible answers at a statement, ascending."""
+    return (0, 1) if statement[0] == "choose" else (0,)
+
+
+def is_answer(statement, answer):
+    """Tells whether an object of any kind is a possible answer at a statement."""
+    return is_integer(answer) and answer in answers_of(statement)
 
 
 class Check:

@@ -1,6 +1,7 @@
-"""What counts as an integer and as a name everywhere in the program (point 2)."""
+"""What counts as an integer, as a name and as a measure everywhere in the program (points 2 and 19)."""
 
 LONGEST_NAME = 8
+MEASURES = ("gap", "late", "spread")
 
 
 def is_integer(value):
@@ -17,3 +18,8 @@ def is_name(value):
         return False
     # Not islower(): it also accepts digits, and letters outside of a to z.
     return all(["a" <= letter <= "z" for letter in value])
+
+
+def is_measure(value):
+    # Without the first test, an object that claims to be equal to everything would be a measure.
+    return isinstance(value, str) and value in MEASURES

@@ -1,5 +1,6 @@
 """Objects of other kinds than the one that is asked for."""
 
+from takenahead.schedules import Running, run
 from takenahead.scripts import Script
 from takenahead.systems import Kind, System
 
@@ -20,11 +21,13 @@ class Same:
 
 SCRIPT = Script((("take",),))
 KIND = Kind("odd", SCRIPT)
+SYSTEM = System(KIND)
 
 NO_NUMBERS = (
     None, True, False, 0.0, 1.0, -1.0, 2.0, 1 + 0j, "", "0", "1", "take", b"take", (), (0,), (1,), [], [0], {}, {0: 0},
     set(), {0}, frozenset(), frozenset((0,)), bytearray(b"a"), range(1), object(), int, str, len, ..., NotImplemented,
-    ValueError("x"), Thing(), Same(), SCRIPT, KIND, System(KIND),
+    ValueError("x"), Thing(), Same(), SCRIPT, KIND, SYSTEM,
+    Running(SYSTEM), run(SYSTEM, []),
 )
 
 
