@@ -43,26 +43,32 @@ def steps(system, measure, state):
 
 def reached(system, measure):
     """Yields each state that can be reached from the start once, the start first."""
+    for state, items in explored(system, measure):
+        yield state
+
+
+def reach(system, measure):
+    """The number of the states that can be reached from the start."""
+    return len(list(reached(system, measure)))
+
+
+def explored(system, measure):
+    """Yields each state that can be reached from the start, in the order of `reached`, with its list of `steps`."""
     states = [start(system, measure)]
     seen = set()
     seen.add(states[0])
     at = 0
     while at < len(states):
-        state = states[at]
-        yield state
-        for item in steps(system, measure, state):
+        items = steps(system, measure, states[at])
+        for item in items:
             result = result_of(item)
             if result not in seen:
                 if len(states) == MOST_STATES:
                     raise TooMany(MOST_STATES)
                 seen.add(result)
                 states.append(result)
+        yield (states[at], items)
         at += 1
-
-
-def reach(system, measure):
-    """The number of the states that can be reached from the start."""
-    return len(list(reached(system, measure)))
 
 
 def check_measure(measure):

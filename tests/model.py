@@ -1,4 +1,4 @@
-"""A second, slow program for points 10 to 26, which shares nothing with the package but scripts and systems.
+"""A second, slow program for points 10 to 36, which shares nothing with the package but scripts and systems.
 
 It works on whole sets of numbers, and it derives the states and the gains of point 22 from two numbers that are
 marked: the gain of a step is what it adds to the value that a and b have so far.
@@ -106,6 +106,15 @@ class Model:
             self.places[session] = (0,)
             self.locks[session].clear()
 
+    def values(self):
+        """The value of each measure, or None: points 16 to 18, word by word."""
+        committed, out = self.committed(), self.out()
+        commit_of = {number: index for index, (session, numbers) in enumerate(self.commits) for number in numbers}
+        pairs = [(a, b) for a in committed for b in committed if a < b]
+        gaps = [b - a - 1 for a, b in pairs if not any(number in committed | out for number in range(a + 1, b))]
+        lates = [b - a for a, b in pairs if commit_of[b] < commit_of[a]]
+        return {"gap": max(gaps, default=None), "late": max(lates, default=None), "spread": self.spread}
+
     # The marked numbers a and b, each of them None while it is not marked.
 
     def status_of(self, mark):
@@ -194,3 +203,64 @@ class Model:
         if self.finished(measure, a, b):
             found.append(((("stop",), (None, None), ("end",), 0), None, None, None))
         return found
+
+
+def graph_of(system, measure):
+    """A dict from each state that can be reached to the list of what `steps` returns for it."""
+    first = Model(system)
+    graph = {}
+    waiting = [(first.state(None, None), first, None, None)]
+    while waiting:
+        state, model, a, b = waiting.pop()
+        if state in graph:
+            continue
+        rows = [] if state == ("end",) else model.items(measure, a, b)
+        graph[state] = [row[0] for row in rows]
+        waiting += [(item[2], *behind) for item, *behind in rows]
+    return graph
+
+
+def prices_of(graph):
+    """The greatest sum of a road from each state to the end, or None instead of all if there is no greatest one.
+
+    Each turn looks at roads that are one step longer. A road without a return is shorter than there are states, so
+    a turn after those that still finds a greater sum has found a return with a gain.
+    """
+    prices = dict.fromkeys(graph)
+    if ("end",) in graph:
+        prices[("end",)] = 0
+    for turn in range(len(graph) + 1):
+        changed = False
+        for state, items in graph.items():
+            for step, offsets, result, gain in items:
+                price = prices[result]
+                if price is not None and (prices[state] is None or prices[state] < gain + price):
+                    prices[state] = gain + price
+                    changed = True
+        if not changed:
+            return prices
+    return None
+
+
+def greatest_of(system, measure):
+    """What `greatest` returns."""
+    graph = graph_of(system, measure)
+    prices = prices_of(graph)
+    if prices is None:
+        return ("endless",)
+    price = prices[Model(system).state(None, None)]
+    return ("none",) if price is None else ("most", price)
+
+
+def fewest_of(system, longest):
+    """For each measure a dict from a value to the fewest steps of a schedule with it, of all with up to `longest`."""
+    found = {"gap": {}, "late": {}, "spread": {}}
+    models = [Model(system)]
+    for length in range(longest + 1):
+        for model in models:
+            for measure, value in model.values().items():
+                if value is not None:
+                    found[measure].setdefault(value, length)
+        if length < longest:
+            models = [model.after(step) for model in models for step in model.possible()]
+    return found

@@ -3,54 +3,9 @@
 import unittest
 
 from model import Model
-from takenahead.records import gap, late, spread
+from samples import MEASURES, SYSTEMS, VALUE_OF
 from takenahead.schedules import Running, run
 from takenahead.states import reached, start, steps
-from takenahead.systems import Kind, System
-
-MEASURES = ("gap", "late", "spread")
-VALUE_OF = {"gap": gap, "late": late, "spread": spread}
-
-TAKE, COMMIT, ROLLBACK, DROP, LEAVE = ("take",), ("commit",), ("rollback",), ("drop",), ("leave",)
-SHORT = (TAKE, COMMIT)
-PAIR = (TAKE, TAKE, COMMIT)
-MAYBE = (TAKE, ("choose", (COMMIT,), ()))
-LOSER = (TAKE, ("choose", (COMMIT,), (ROLLBACK,)), DROP)
-LEAVER = (TAKE, ("choose", (LEAVE,), (COMMIT,)))
-LOCKER = (("lock", "a"), TAKE, ("unlock", "a"), COMMIT)
-REVERSE = (("lock", "b"), ("lock", "a"), TAKE, COMMIT)
-ORDERED = (("lock", "a"), ("lock", "b"), COMMIT)
-LAST = (COMMIT, TAKE)
-MIXED = (TAKE, TAKE, ("choose", (DROP, COMMIT), (("choose", (), (LEAVE,)), ("lock", "a"))))
-
-
-def system_of(*rows, **values):
-    """A system of one kind for each pair of a script and a block."""
-    kinds = [Kind("abc"[index], script, block=block) for index, (script, block) in enumerate(rows)]
-    return System(*kinds, **values)
-
-
-SYSTEMS = (
-    system_of((SHORT, 1)),
-    system_of((SHORT, 2), ahead=1, crashes=1),
-    system_of((SHORT, 3), ahead=4, crashes=2),
-    system_of((PAIR, 3), window=3, crashes=1),
-    system_of((MAYBE, 2), ahead=3, crashes=2, window=5),
-    system_of((LOSER, 3)),
-    system_of((LEAVER, 2), window=2),
-    system_of((LAST, 3), crashes=1),
-    system_of((MIXED, 3), window=4),
-    system_of(((TAKE, TAKE, TAKE), 1), window=2),
-    system_of((SHORT, 2), (SHORT, 2), window=4),
-    system_of((SHORT, 2), (SHORT, 3)),
-    system_of((SHORT, 1), (LOSER, 2), window=3, ahead=2, crashes=1),
-    system_of((LOCKER, 2), (LOCKER, 1)),
-    system_of((REVERSE, 1), (ORDERED, 1), ahead=1, crashes=1),
-    system_of((LEAVER, 2), (PAIR, 1), window=3),
-    System(Kind("a", MAYBE, block=2, many=2), window=3),
-    System(Kind("a", SHORT, many=3), window=2),
-    System(Kind("a", SHORT, many=2), Kind("b", (TAKE,), block=2), ahead=1, window=2),
-)
 
 
 class Schedules(unittest.TestCase):
