@@ -40,8 +40,12 @@ def spread(record):
     return record.spread
 
 
+def committed_numbers(record):
+    """The list of all committed numbers, in no special order."""
+    return [number for session, together in record.commits for number in together]
+
+
 def neighbours(record):
     """The ascending list of the pairs of committed numbers without a committed number or one that is out between."""
-    numbers = [number for session, together in record.commits for number in together]
-    numbers = sorted(numbers + list(record.out))
+    numbers = sorted(committed_numbers(record) + list(record.out))
     return [(a, b) for a, b in zip(numbers, numbers[1:]) if a not in record.out and b not in record.out]

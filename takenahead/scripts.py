@@ -115,14 +115,11 @@ class Check:
         if why is not None:
             raise BadScript(place, why)
         self.found[place] = statement
-        word = statement[0]
-        if word == "choose":
+        if statement[0] == "choose":
             yes = self.check_branch(statement[1], place + (0,), held)
             no = self.check_branch(statement[2], place + (1,), held)
             return max(yes, no)
-        if word == "take":
-            return held + 1
-        return 0 if word in ("commit", "rollback", "leave") else held
+        return held_after(statement[0], held)
 
 
 def fault_of(statement, place, earlier, held):
@@ -144,6 +141,13 @@ def fault_of(statement, place, earlier, held):
     if word == "take" and held == MOST_HELD:
         return "full"
     return None
+
+
+def held_after(word, held):
+    """The count of the transaction behind a statement with this word, which is no choose; `held` is that before it."""
+    if word == "take":
+        return held + 1
+    return 0 if word in ("commit", "rollback", "leave") else held
 
 
 def has_form(statement):

@@ -1,5 +1,6 @@
 """Objects of other kinds than the one that is asked for."""
 
+from takenahead.readers import Reader
 from takenahead.schedules import Running, run
 from takenahead.scripts import Script
 from takenahead.systems import Kind, System
@@ -27,7 +28,7 @@ NO_NUMBERS = (
     None, True, False, 0.0, 1.0, -1.0, 2.0, 1 + 0j, "", "0", "1", "take", b"take", (), (0,), (1,), [], [0], {}, {0: 0},
     set(), {0}, frozenset(), frozenset((0,)), bytearray(b"a"), range(1), object(), int, str, len, ..., NotImplemented,
     ValueError("x"), Thing(), Same(), SCRIPT, KIND, SYSTEM,
-    Running(SYSTEM), run(SYSTEM, []),
+    Running(SYSTEM), run(SYSTEM, []), Reader(0),
 )
 
 

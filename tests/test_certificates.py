@@ -293,7 +293,9 @@ class Errors(unittest.TestCase):
     def test_no_measure_first(self):
         for measure in list(NO_NUMBERS) + ["", "Late", b"late", ("late",)]:
             for system in (SMALL, BIG):
-                for call, values in ((certificate, ()), (certificate_fault, ({}, None)), (certificate_fault, ({END: 1}, 1))):
+                for call, *values in (
+                    (certificate,), (certificate_fault, {}, None), (certificate_fault, {END: 1}, 1),
+                ):
                     with self.assertRaises(NoMeasure) as caught:
                         call(system, measure, *values)
                     self.assertIs(caught.exception.measure, measure)

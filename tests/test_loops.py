@@ -7,7 +7,8 @@ import unittest
 from model import graph_of
 from odd import NO_NUMBERS
 from samples import (
-    BIG, COMMIT, CRASH, DROP, HUGE, LOCKER, LOSER, MAYBE, MEASURES, NONE, SHORT, STOP, SYSTEMS, TAKE, VALUE_OF, one, two,
+    BIG, COMMIT, CRASH, DROP, HUGE, LOCKER, LOSER, MAYBE, MEASURES, NONE, SHORT, STOP, SYSTEMS, TAKE, VALUE_OF, one,
+    two,
 )
 from takenahead.errors import BadTimes, NoMeasure, TooMany
 from takenahead.loops import loop, loop_fault, turned

@@ -181,7 +181,8 @@ class Shortest(MeasuresCase):
         self.assertEqual(shortest(one(*SHORT), "spread", 1), [(0, 0)])
         self.assertIsNone(shortest(one(*SHORT), "spread", 2))
         self.assertEqual(shortest(one(*SHORT), "gap", 0), [(0, 0)] * 4)
-        self.assertEqual(shortest(one(*SHORT, ahead=2, crashes=1), "gap", 1), [(0, 0), (0, 0), ("crash",), (0, 0), (0, 0)])
+        system = one(*SHORT, ahead=2, crashes=1)
+        self.assertEqual(shortest(system, "gap", 1), [(0, 0), (0, 0), ("crash",), (0, 0), (0, 0)])
 
     def test_answers(self):
         # 0 is committed, then 1 and 2 are lost, then 3 is committed.
